@@ -4,8 +4,10 @@ import (
 	"slices"
 	"testing"
 
+	"patchbay/book"
 	"patchbay/ctl"
 	"patchbay/hist"
+	"patchbay/key"
 	"patchbay/model"
 	"patchbay/port"
 	"patchbay/turn"
@@ -302,6 +304,73 @@ func TestOrdersThatStandStill(t *testing.T) {
 			for !w.step(0) {
 			}
 			w.quiet()
+		}
+	}
+}
+
+// Orders that change entries stand still behind each of their steps: a Lookup that is over meanwhile answers by what took effect.
+func TestEntriesThatAreBeingChanged(t *testing.T) {
+	p := planOf(3, 2, book.Size{Shards: 2, Buckets: 2, Slots: 1}, 2)
+	x := &numbers{1}
+	k, far := x.station(), x.station()
+	for far == k {
+		far = x.station()
+	}
+	changed := 0
+	for _, o := range []model.Op{{Kind: model.Order, Key: k, Port: 2}, {Kind: model.Flush, Port: -1, Vid: -1}, {Kind: model.Drop, Key: far}} {
+		for at := range ctl.Bound(p) {
+			w := newWorld(t, p)
+			w.do(1, learn(w.f, 1, k, 0, 5))
+			w.do(1, w.command(1, model.Op{Kind: model.Order, Key: far, Port: 1}))
+			w.jobs[0] = w.command(0, o)
+			for range at {
+				if w.jobs[0] != nil {
+					w.step(0)
+				}
+			}
+			for who, k := range []key.Key{k, far} {
+				w.jobs[5+who] = lookup(w.f, 5+who, k)
+				for range 100 {
+					if w.jobs[5+who] != nil && w.step(5+who) {
+						was := w.logs[5+who][0].Answer
+						changed += number(w.jobs[0] != nil && was != who)
+					}
+				}
+				w.right()
+			}
+			for who := range 100 {
+				for range 100 {
+					if w.jobs[who] != nil {
+						w.step(who)
+					}
+				}
+			}
+			w.quiet()
+		}
+	}
+	if changed == 0 {
+		t.Error("no Lookup saw what an order that wasn't over had changed")
+	}
+}
+
+// Locks are taken by who gives the order, and by nobody else.
+func TestWhoTakesLocks(t *testing.T) {
+	p := plans()[2]
+	for _, o := range []model.Op{{Kind: model.Order, Key: (&numbers{1}).station()}, {Kind: model.Drop, Key: (&numbers{1}).station()}, {Kind: model.Flush}, {Kind: model.SetState, Port: 3}, {Kind: model.SetVlan, Vid: 1}} {
+		w := newWorld(t, p)
+		w.jobs[77] = w.command(77, o)
+		had := false
+		for !w.step(77) {
+			for l := range w.f.Mem().Locks() {
+				who := w.f.Mem().Holder(l)
+				had = had || who == 77
+				if who != 77 && who != -1 {
+					t.Fatalf("%+v: a lock is %d's", o, who)
+				}
+			}
+		}
+		if !had {
+			t.Errorf("%+v without a lock", o)
 		}
 	}
 }

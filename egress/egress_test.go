@@ -230,6 +230,11 @@ func TestHasTheLock(t *testing.T) {
 		told := len(w.out[1].Sent()) > 0
 		free := w.f.Take(1, stranger)
 		w.f.Free(1, stranger)
+		for l := range w.f.Mem().Locks() {
+			if who := w.f.Mem().Holder(l); who != 101 && who != -1 {
+				t.Fatalf("a lock is %d's", who)
+			}
+		}
 		if free && !idle || idle && !free || idle && !told {
 			t.Fatalf("behind %d steps: free %v, idle %v", n, free, idle)
 		}

@@ -409,3 +409,50 @@ func TestLogOnTheWay(t *testing.T) {
 		t.Error("it is over, and something in it isn't")
 	}
 }
+
+// Locks are taken by its who.
+func TestWhoTakesLocks(t *testing.T) {
+	w := forwarding(t, plans()[3], everything)
+	w.begin(2, arrival{id: 3, b: bytesOf(station+2, station+1, 1)})
+	had := false
+	for !w.step(2) {
+		for l := range w.f.Mem().Locks() {
+			who := w.f.Mem().Holder(l)
+			had = had || who == 102
+			if who != 102 && who != -1 {
+				t.Fatalf("a lock is %d's", who)
+			}
+		}
+	}
+	if !had {
+		t.Error("it learned without a lock")
+	}
+}
+
+// A Lookup of a bucket that is being changed waits for its lock, and takes it by the Ingress's who.
+func TestLookupThatWaits(t *testing.T) {
+	w := forwarding(t, plans()[1], everything)
+	w.inNext(0, broadcast, station+1, 2)
+	change := w.f.Fdb().Order(3, w.keyOf(2, 1), 1, 0)
+	for change.Mark() == 0 {
+		change.Step()
+	}
+	w.begin(0, arrival{id: 7, b: bytesOf(station+1, 0, 2)})
+	for range 500 {
+		if w.step(0) {
+			t.Fatal("it found what is being changed")
+		}
+	}
+	for !change.Step() {
+	}
+	had := false
+	for !w.step(0) {
+		for l := range w.f.Mem().Locks() {
+			had = had || w.f.Mem().Holder(l) == 100
+		}
+	}
+	l := w.doors[0].x.Done()
+	if d := l[len(l)-1]; !had || d.Found != 1 {
+		t.Errorf("%v: %+v", had, d)
+	}
+}
