@@ -150,7 +150,9 @@ func outFaults() []fault {
 		{"it goes out twice", func(r *audit.Report) { r.Out = append(r.Out, r.Out[0]) }, "twice"}, {"it goes out once more", func(r *audit.Report) { r.Out = append(r.Out, r.Out[len(r.Out)-1]) }, "twice"},
 		{"they overtake", func(r *audit.Report) { r.Out[0], r.Out[len(r.Out)-1] = r.Out[len(r.Out)-1], r.Out[0]; overtake(r) }, "order"},
 		{"a byte is another one", func(r *audit.Report) { r.Out[0].Bytes[30]++ }, "bytes"}, {"a byte more", func(r *audit.Report) { r.Out[0].Bytes = append(r.Out[0].Bytes, 0) }, "bytes"}, {"no bytes", func(r *audit.Report) { r.Out[0].Bytes = nil }, "bytes"},
+		{"it was shut", func(r *audit.Report) { goOut(r, model.Send, model.Shut) }, "bytes"}, {"it was a stranger", func(r *audit.Report) { goOut(r, model.Send, model.Stranger) }, "bytes"}, {"by no Send", func(r *audit.Report) { goOut(r, model.SetState, 2) }, "bytes"},
 		{"another Mark", func(r *audit.Report) { r.Out[0].Mark++ }, "bytes"}, {"another frame's bytes", func(r *audit.Report) { r.Came[r.Out[0].Id].Bytes[20]++ }, "bytes"}, {"it came with no frame's bytes", func(r *audit.Report) { r.Came[r.Out[0].Id].Bytes = nil }, "bytes"},
+		{"nothing goes out of nothing", func(r *audit.Report) { r.Came[r.Out[0].Id].Bytes, r.Out[0].Bytes = nil, nil }, "bytes"},
 	}
 }
 
@@ -169,6 +171,16 @@ func countFaults() []fault {
 		{"Late below 0", change(bridge.Counts{Late: -1}), "counts"}, {"Late more", change(bridge.Counts{Late: 1}), "counts"}, {"Late for Waits", change(bridge.Counts{Late: 1, Waits: -1}), "counts"}, {"Waits more", change(bridge.Counts{Waits: 5}), "counts"}, {"Waits below 0", func(r *audit.Report) { r.Counts[0][0].Waits = -1 }, "counts"},
 		{"Late comes round", change(bridge.Counts{Late: math.MaxInt}), "counts"}, {"Waits comes round", func(r *audit.Report) { r.Counts[1][2].Waits = math.MaxInt }, "counts"}, {"an Out is missing", func(r *audit.Report) { r.Out = r.Out[1:] }, "counts"},
 	}
+}
+
+// goOut has the last frame go out, without a tag, at the Mark of the first entry of a Kind that answers so; it came at port 2, and goes to 0.
+func goOut(r *audit.Report, kind, answer int) {
+	i := slices.IndexFunc(r.Log, func(e hist.Entry) bool {
+		return e.Op.Kind == kind && e.Op.To == 0 && e.Answer == answer && e.Mark > 0
+	})
+	id := len(r.Came)
+	r.Came = append(r.Came, bridge.Arrival{Port: 2, Bytes: bytesOf(broadcast, station, 0)})
+	r.Out = append(r.Out, bridge.Out{Id: id, From: 2, To: 0, Mark: r.Log[i].Mark, Bytes: bytesOf(broadcast, station, 0)})
 }
 
 func refuse(r *audit.Report, id int, why api.Why) {
@@ -228,6 +240,10 @@ func TestRows(t *testing.T) {
 func TestEdges(t *testing.T) {
 	p := planOf(3, 2)
 	s := full(t, p)
+	bare, tagged := "bytes", ""
+	if len(s.Out()[0].Bytes) == api.MinFrame {
+		bare, tagged = "", "bytes"
+	}
 	for i, c := range []struct {
 		spoil func(r *audit.Report)
 		word  string
@@ -239,6 +255,8 @@ func TestEdges(t *testing.T) {
 		{func(r *audit.Report) { find(r, r.Out[0].Id, r.Out[0].To) }, "found"}, {func(r *audit.Report) { find(r, r.Out[0].Id, -1) }, ""}, {func(r *audit.Report) { find(r, r.Out[0].Id, -2) }, ""},
 		{func(r *audit.Report) { refuse(r, 4, api.Storm) }, ""}, // another reason of one that didn't go out
 		{func(r *audit.Report) { r.Done[0].Learned, r.Done[0].Vid, r.Done[0].To = 77, -5, []int{9} }, ""},
+		{func(r *audit.Report) { cameAt(r, r.Out[0].Id, 99) }, "counts"}, {func(r *audit.Report) { cameAt(r, r.Out[0].Id, -1) }, "counts"}, // where there is no port
+		{func(r *audit.Report) { r.Out[0].Mark = 0; sendsAtOnce(r, model.Bare, model.Tagged) }, bare}, {func(r *audit.Report) { r.Out[0].Mark = 0; sendsAtOnce(r, model.Tagged, model.Bare) }, tagged},
 		{func(r *audit.Report) { r.Came[0].Tick = 99 }, ""}, {func(r *audit.Report) { r.Came[4].Bytes = []byte{1} }, ""},
 		{func(r *audit.Report) { r.Log = append(r.Log, hist.Entry{Who: 99}) }, ""}, // it hasn't taken effect
 		{func(r *audit.Report) {
@@ -282,6 +300,23 @@ func TestEdges(t *testing.T) {
 		if w := audit.Judge(r); w != c.word || w != plainly(r) {
 			t.Errorf("%d: %q, not %q, nor %q", i, w, c.word, plainly(r))
 		}
+	}
+}
+
+// cameAt: a frame came at another port.
+func cameAt(r *audit.Report, id, at int) {
+	r.Came[id].Port = at
+	for i := range r.Out {
+		if r.Out[i].Id == id {
+			r.Out[i].From = at
+		}
+	}
+}
+
+// sendsAtOnce: of the first Out's port two Sends are told, that aren't over, with these answers.
+func sendsAtOnce(r *audit.Report, answers ...int) {
+	for i, a := range answers {
+		r.Log = append(r.Log, hist.Entry{Who: 98 + i, Op: model.Op{Kind: model.Send, To: r.Out[0].To, Vid: 1}, Answer: a})
 	}
 }
 

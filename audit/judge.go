@@ -28,21 +28,9 @@ func judgeLog(r Report) string {
 	return "answers"
 }
 
+// byWho: the End, that comes behind Who and Begin, tells nothing more: two of one Who with one Begin are busy in whatever order they stand.
 func byWho(a, b hist.Entry) int {
-	return cmp.Or(cmp.Compare(a.Who, b.Who), cmp.Compare(a.Begin, b.Begin), byEnd(a.End, b.End))
-}
-
-// byEnd: what isn't over is behind all that is.
-func byEnd(a, b int) int {
-	switch {
-	case a == b:
-		return 0
-	case a == 0:
-		return 1
-	case b == 0:
-		return -1
-	}
-	return cmp.Compare(a, b)
+	return cmp.Or(cmp.Compare(a.Who, b.Who), cmp.Compare(a.Begin, b.Begin))
 }
 
 func came(r Report, id int) bool { return id >= 0 && id < len(r.Came) }

@@ -111,6 +111,15 @@ func full(t *testing.T, p model.Plan) *bridge.Switch {
 	s.Arrive(2, nil)
 	s.Arrive(2, bytesOf(broadcast, station+3, 2))
 	settle(t, s)
+	s.Arrive(2, bytesOf(broadcast, station+3, 0)) // at 0 it is a stranger
+	for s.Pick(2) {
+	}
+	s.Order(model.Op{Kind: model.SetVlan, Vid: 1, Members: 6})
+	for s.Pick(s.Tasks() - 1) {
+	}
+	settle(t, s)
+	s.Order(model.Op{Kind: model.SetVlan, Vid: 1, Members: 7, Untagged: 5})
+	settle(t, s)
 	s.Sweep()
 	s.Order(model.Op{Kind: model.SetState, Port: 0, State: port.Blocking})
 	for range 4 {
